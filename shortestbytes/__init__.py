@@ -1,0 +1,1 @@
+"""Documents of bytes with one shortest form."""

@@ -1,0 +1,72 @@
+"""Numbers and their codes."""
+
+from shortestbytes.errors import BadNumber, Unfinished, WrongByte
+
+MOST = 256 ** 63 - 1
+
+# A number below FIRST_LONG is its own code; a code of more bytes begins with
+# LONG plus the count of the bytes behind its first one.
+FIRST_LONG = 192
+LONG = 191
+LAST_FIRST = 254
+
+
+def is_int(thing):
+    """Whether any value is an integer, which True and False are not."""
+    return isinstance(thing, int) and not isinstance(thing, bool)
+
+
+def is_byte(thing):
+    """Whether any value is a byte."""
+    return is_int(thing) and 0 <= thing <= 255
+
+
+def is_number(thing):
+    """Whether any value is a number."""
+    return is_int(thing) and 0 <= thing <= MOST
+
+
+def base_256(number):
+    """The digits of a number in base 256, the most significant one first."""
+    many = (number.bit_length() + 7) // 8
+    return [(number >> (8 * place)) & 255 for place in range(many - 1, -1, -1)]
+
+
+def number_code(number):
+    """The code of a number, a new list of bytes."""
+    if not is_number(number):
+        raise BadNumber(number)
+    if number < FIRST_LONG:
+        return [number]
+    digits = base_256(number)
+    return [LONG + len(digits)] + digits
+
+
+def least_second(first):
+    """The least byte behind the first byte of a long code.
+
+    A lesser one would make the code longer than its number needs.
+    """
+    return FIRST_LONG if first == LONG + 1 else 1
+
+
+def byte_at(data, at, low, high):
+    """The entry at an index of data, which must be a byte from low to high."""
+    if at == len(data):
+        raise Unfinished(at)
+    entry = data[at]
+    if not is_byte(entry) or not low <= entry <= high:
+        raise WrongByte(at)
+    return entry
+
+
+def number_at(data, at=0):
+    """The number whose code begins at an index of data, and the index behind the code."""
+    first = byte_at(data, at, 0, LAST_FIRST)
+    if first < FIRST_LONG:
+        return first, at + 1
+    end = at + 1 + first - LONG
+    number = byte_at(data, at + 1, least_second(first), 255)
+    for index in range(at + 2, end):
+        number = number * 256 + byte_at(data, index, 0, 255)
+    return number, end
