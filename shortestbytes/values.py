@@ -87,27 +87,31 @@ def copy_of(value):
         return [copy_of(item) for item in value]
     if isinstance(value, dict):
         return {key: copy_of(part) for key, part in parts_of(value)}
-    if isinstance(value, Tag):
-        return Tag(value.number, value._content)
-    return value
+    return twin_of(value) if isinstance(value, Tag) else value
 
 
-def nest_head(nest):
-    """The bytes of the head of a nest."""
-    if isinstance(nest, list):
-        return [LIST] + number_code(len(nest))
-    if isinstance(nest, dict):
-        return [MAP] + number_code(len(nest))
-    return [TAG] + number_code(nest.number)
+def twin_of(tag):
+    """Another Tag that is equal to the tag."""
+    # It begins with a small content, so that one known to be right is not looked at again.
+    # The two may have the inner content in common, for it is never handed out and never changes.
+    twin = Tag(tag.number, None)
+    twin._content = tag._content
+    twin._row = tag._row
+    return twin
 
 
 def document_row(value):
     """The bytes of the document of a value, a new list."""
-    if not is_nest(value):
-        return leaf_row(value)
-    row = nest_head(value)
-    for step, part in parts_of(value):
-        if isinstance(value, dict):
-            row.extend(leaf_row(step))
-        row.extend(document_row(part))
-    return row
+    if isinstance(value, list):
+        row = [LIST] + number_code(len(value))
+        for item in value:
+            row.extend(document_row(item))
+        return row
+    if isinstance(value, dict):
+        row = [MAP] + number_code(len(value))
+        for key, part in parts_of(value):
+            row.extend(leaf_row(key) + document_row(part))
+        return row
+    if isinstance(value, Tag):
+        return [TAG] + number_code(value.number) + list(value._row)
+    return leaf_row(value)
