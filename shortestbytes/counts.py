@@ -42,6 +42,11 @@ def number_code(number):
     return [LONG + len(digits)] + digits
 
 
+def code_size(first):
+    """The count of bytes of a code that begins with this byte."""
+    return 1 if first < FIRST_LONG else 1 + first - LONG
+
+
 def least_second(first):
     """The least byte behind the first byte of a long code.
 
@@ -63,9 +68,9 @@ def byte_at(data, at, low, high):
 def number_at(data, at=0):
     """The number whose code begins at an index of data, and the index behind the code."""
     first = byte_at(data, at, 0, LAST_FIRST)
-    if first < FIRST_LONG:
-        return first, at + 1
-    end = at + 1 + first - LONG
+    end = at + code_size(first)
+    if end == at + 1:
+        return first, end
     number = byte_at(data, at + 1, least_second(first), 255)
     for index in range(at + 2, end):
         number = number * 256 + byte_at(data, index, 0, 255)

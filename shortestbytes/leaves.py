@@ -3,25 +3,29 @@
 from shortestbytes.counts import MOST, is_byte, is_int, number_code
 from shortestbytes.kinds import FALSE, INTEGER, NEGATIVE, NONE, OCTETS, TEXT, TRUE
 
-NEWLINE = 10
-TAB = 9
-SPACE = 32
-PERCENT = 37
-TILDE = 126
+# The characters that a text may have, and the ranges of their codes.
+SIGNS = "\t\n !\"#$&'()*+,-./0123456789:;<=>?@ABCDEFGHIJKLMNOPQRSTUVWXYZ[\\]^_`abcdefghijklmnopqrstuvwxyz{|}~"
+TEXT_RANGES = ((9, 10), (32, 36), (38, 126))
+OCTET_RANGES = ((0, 255),)
 
 
-def is_text_code(code):
-    """Whether a code is that of a character that a text may have."""
-    return (SPACE <= code <= TILDE and code != PERCENT) or code in (NEWLINE, TAB)
+def ranges_of_kind(kind):
+    """The ranges of the bytes that the content of leaves of a kind, octets or text, may have."""
+    return TEXT_RANGES if kind == TEXT else OCTET_RANGES
+
+
+def is_integer_value(thing):
+    """Whether any value is an integer that is a value."""
+    return is_int(thing) and -1 - MOST <= thing <= MOST
 
 
 def is_key(thing):
     """Whether any value is a key: an integer in range, octets or a text."""
     if isinstance(thing, str):
-        return all([is_text_code(ord(sign)) for sign in thing])
+        return all([sign in SIGNS for sign in thing])
     if isinstance(thing, tuple):
         return all([is_byte(entry) for entry in thing])
-    return is_int(thing) and -1 - MOST <= thing <= MOST
+    return is_integer_value(thing)
 
 
 def is_leaf(thing):
@@ -37,6 +41,19 @@ def integer_row(number):
     return [NEGATIVE] + [255 - byte for byte in number_code(-1 - number)]
 
 
+def content_of(leaf):
+    """The bytes of the content of octets or of a text, a new list; none for other leaves."""
+    if isinstance(leaf, str):
+        return [ord(sign) for sign in leaf]
+    return list(leaf) if isinstance(leaf, tuple) else []
+
+
+def text_of(codes):
+    """The text whose characters have these codes."""
+    table = {ord(sign): sign for sign in SIGNS}
+    return "".join([table[code] for code in codes])
+
+
 def leaf_row(leaf):
     """The bytes of the document of a leaf, a new list."""
     if leaf is None:
@@ -45,6 +62,5 @@ def leaf_row(leaf):
         return [TRUE] if leaf else [FALSE]
     if isinstance(leaf, int):
         return integer_row(leaf)
-    if isinstance(leaf, tuple):
-        return [OCTETS] + number_code(len(leaf)) + list(leaf)
-    return [TEXT] + number_code(len(leaf)) + [ord(sign) for sign in leaf]
+    kind = OCTETS if isinstance(leaf, tuple) else TEXT
+    return [kind] + number_code(len(leaf)) + content_of(leaf)

@@ -4,6 +4,7 @@ import itertools
 import unittest
 
 from shortestbytes.counts import MOST, number_at, number_code
+from shortestbytes.documents import Document
 from shortestbytes.errors import BadNumber, BadValue, ShortestBytesError, Unfinished, WrongByte
 from shortestbytes.values import Tag
 
@@ -128,6 +129,23 @@ class NumberAt(unittest.TestCase):
                         end = len(before) + len(code)
                         self.assertEqual(number_at(data, len(before)), (number, end))
 
+    def test_in_a_document(self):
+        self.assertEqual(number_at(Document.of(300), 1), (300, 4))
+        self.assertEqual(number_at(data=Document.of(["a", 5]), at=3), (1, 4))
+        for number in edges():
+            document = Document.of([number, number])
+            size = len(number_code(number))
+            self.assertEqual(number_at(document, 3), (number, 3 + size))
+            self.assertEqual(number_at(document, 4 + size), (number, 4 + 2 * size))
+        for value in (-1, (1, 255), {1: [5]}):
+            document = Document.of(value)
+            for at in range(len(document) + 1):
+                self.assertEqual(self.told(document, at), self.told(list(document), at))
+        self.assertEqual(self.told(Document.of((192, 5)), 2), ("wrong", 3))
+        self.assertEqual(self.told(Document.of((255, 193)), 2), ("wrong", 2))
+        self.assertEqual(self.told(Document.of((255, 193)), 3), ("unfinished", 4))
+        self.assertEqual(self.told(Document.of(5), 2), ("unfinished", 2))
+
     def test_kinds_of_the_result(self):
         for data in ([5], [193, 1, 44]):
             found = number_at(data)
@@ -211,9 +229,9 @@ class NumberAt(unittest.TestCase):
                 if not row or row[0] < 194 and row[0] is not True:
                     self.assertEqual(self.told(row), self.expected(row, alive))
 
-    def told(self, row):
+    def told(self, row, at=0):
         try:
-            return number_at(row)
+            return number_at(row, at)
         except WrongByte as error:
             return ("wrong", error.at)
         except Unfinished as error:

@@ -3,7 +3,7 @@
 import inspect
 import unittest
 
-from shortestbytes import counts, errors, values
+from shortestbytes import counts, documents, errors, schemas, shapes, values
 
 FUNCTIONS = [
     (counts, "number_code", ["number"]),
@@ -13,6 +13,44 @@ FUNCTIONS = [
 
 CLASSES = [
     (values, "Tag", ["number", "content"], ["content", "__eq__", "__lt__", "__repr__"]),
+    (schemas, "Schema", ["root", "named"], ["of", "names", "matches", "least_depth"]),
+    (documents, "Document", None, [
+        "of", "read", "list_of", "map_of", "tag_of", "value", "depth", "__len__", "__getitem__", "__iter__", "__eq__",
+        "__lt__", "__le__", "__gt__", "__ge__", "__str__", "__repr__", "events", "listing",
+    ]),
+    (shapes, "Shape", None, [
+        "anything", "just", "integers", "texts", "octets", "rows", "lists", "maps", "record", "fields", "tagged", "named",
+        "__or__",
+    ]),
+]
+
+SIGNATURES = [
+    (documents.Document.of, "(value)"),
+    (documents.Document.read, "(data, *, schema=None)"),
+    (documents.Document.list_of, "(*documents)"),
+    (documents.Document.map_of, "(pairs)"),
+    (documents.Document.tag_of, "(number, document)"),
+    (documents.Document.value, "(self)"),
+    (documents.Document.depth, "(self)"),
+    (documents.Document.events, "(self)"),
+    (documents.Document.listing, "(self)"),
+    (shapes.Shape.anything, "()"),
+    (shapes.Shape.just, "(value)"),
+    (shapes.Shape.integers, "(low=None, high=None)"),
+    (shapes.Shape.texts, "(least=0, most=None)"),
+    (shapes.Shape.octets, "(least=0, most=None)"),
+    (shapes.Shape.rows, "(*shapes)"),
+    (shapes.Shape.lists, "(item, *, least=0, most=None)"),
+    (shapes.Shape.maps, "(key, content, *, least=0, most=None)"),
+    (shapes.Shape.record, "(required, *, optional=None)"),
+    (shapes.Shape.fields, "(**shapes)"),
+    (shapes.Shape.tagged, "(number, content)"),
+    (shapes.Shape.named, "(name)"),
+    (schemas.Schema, "(root, named=None)"),
+    (schemas.Schema.of, "(root, **named)"),
+    (schemas.Schema.names, "(self)"),
+    (schemas.Schema.matches, "(self, value)"),
+    (schemas.Schema.least_depth, "(self, name=None)"),
 ]
 
 
@@ -30,9 +68,25 @@ class Interface(unittest.TestCase):
             with self.subTest(name=name):
                 thing = getattr(module, name)
                 self.assertEqual(thing.__module__, module.__name__)
-                self.assertEqual(list(inspect.signature(thing).parameters), parameters)
+                if parameters is not None:
+                    self.assertEqual(list(inspect.signature(thing).parameters), parameters)
                 for method in methods:
                     self.assertIn(method, vars(thing))
+
+    def test_signatures(self):
+        for thing, expected in SIGNATURES:
+            with self.subTest(thing=thing):
+                self.assertEqual(str(inspect.signature(thing)), expected)
+
+    def test_class_values(self):
+        self.assertEqual(vars(documents.Document)["DEEPEST"], 24)
+        self.assertEqual(vars(shapes.Shape)["LONGEST"], 400)
+
+    def test_attributes_are_set_on_each_object(self):
+        for value in (None, 5, "a", [1], {1: 2}, values.Tag(1, 1)):
+            document = documents.Document.of(value)
+            self.assertIn("data", vars(document))
+            self.assertIn("kind", vars(document))
 
     def test_errors(self):
         for name, thing in inspect.getmembers(errors, inspect.isclass):

@@ -1,7 +1,9 @@
 """The rules of the language that a look at the files alone can tell."""
 
 import ast
+import builtins
 import pathlib
+import re
 import unittest
 
 import shortestbytes
@@ -15,6 +17,39 @@ LIBRARY = {
     },
     "collections": {"defaultdict"},
 }
+BUILTINS = set("""
+    len range enumerate zip min max sum abs sorted reversed int str bool bytes list tuple dict set frozenset isinstance ord
+    repr any all divmod pow getattr hasattr setattr iter next map Exception ValueError TypeError KeyError IndexError
+    LookupError ZeroDivisionError ArithmeticError OverflowError RuntimeError NotImplementedError AttributeError StopIteration
+    NotImplemented super property staticmethod classmethod
+""".split())
+DUNDERS = set("""
+    init eq repr str len enter exit call iter lt le gt ge ne add sub mul floordiv mod pow and or xor lshift rshift neg pos
+    invert abs bool contains getitem setitem
+""".split())
+BARRED_ATTRIBUTES = set("""
+    items keys values pop update append clear extend insert remove reverse setdefault sort args encode decode hex fromhex
+    format format_map mro register elements law as_integer_ratio bit_count conjugate from_bytes is_integer to_bytes
+    real imag numerator denominator
+""".split())
+BARRED_WORDS = re.compile(r"""\b(
+    typing|typing_extensions|enum|Enum|IntEnum|StrEnum|Flag|IntFlag|Generic|Protocol|ABC|ABCMeta|namedtuple|NamedTuple|
+    TypedDict|TYPE_CHECKING|abstractmethod|_wall|_WallAttr|_record|_cold|_outside|_written_out|_member_names|register|mro|
+    elements|version_info|with_traceback|add_note|Meta
+)\b|dataclass|overload|contextmanager|metaclass=|\(type\)""", re.VERBOSE)
+STATEMENTS_BARRED = (
+    ast.Global, ast.AsyncFunctionDef, ast.AsyncFor, ast.AsyncWith, ast.Set, ast.SetComp, ast.GeneratorExp, ast.Div, ast.Match,
+    ast.Try, ast.With,
+)
+
+
+def assigned_names(tree):
+    """The names that are given a meaning somewhere, and the functions and classes; attributes are none."""
+    for node in ast.walk(tree):
+        if isinstance(node, ast.Name) and isinstance(node.ctx, ast.Store):
+            yield node.id
+        if isinstance(node, ast.arg):
+            yield node.arg
 
 
 class Language(unittest.TestCase):
@@ -62,6 +97,92 @@ class Language(unittest.TestCase):
         for path, text in self.sources():
             for node in ast.parse(text).body:
                 self.assertFalse(getattr(node, "decorator_list", []), path.name)
+
+    def trees(self):
+        for path, text in self.sources():
+            yield path.name, ast.parse(text)
+
+    def test_nothing_but_the_statements_and_values_in_use(self):
+        # What the package does not need so far; the rules allow some of it in a few places.
+        for name, tree in self.trees():
+            for node in ast.walk(tree):
+                self.assertNotIsInstance(node, STATEMENTS_BARRED, f"{name} {getattr(node, 'lineno', 0)}")
+
+    def test_builtins(self):
+        known = set(dir(builtins))
+        for name, tree in self.trees():
+            for node in ast.walk(tree):
+                if isinstance(node, ast.Name) and isinstance(node.ctx, ast.Load) and node.id in known:
+                    self.assertIn(node.id, BUILTINS, name)
+            for word in assigned_names(tree):
+                self.assertNotIn(word, known, name)
+
+    def test_names(self):
+        for name, tree in self.trees():
+            bound = {
+                alias.asname or alias.name
+                for node in tree.body if isinstance(node, ast.ImportFrom) for alias in node.names
+            }
+            bound |= {node.name for node in tree.body if isinstance(node, ast.ClassDef)}
+            for word in assigned_names(tree):
+                self.assertNotIn(word, bound, name)
+                self.assertRegex(word, r"\A_?[A-Za-z][A-Za-z0-9_]*\Z|\A_\Z")
+            plain = [node.name for node in tree.body if isinstance(node, (ast.FunctionDef, ast.ClassDef))]
+            self.assertEqual(len(plain), len(set(plain)))
+
+    def test_words(self):
+        for path, text in self.sources():
+            self.assertIsNone(BARRED_WORDS.search(text), path.name)
+
+    def test_methods_and_attributes(self):
+        plain, made, stored = set(), set(), set()
+        for name, tree in self.trees():
+            for node in ast.walk(tree):
+                if isinstance(node, ast.Attribute) and isinstance(node.ctx, ast.Store):
+                    stored.add(node.attr)
+                if not isinstance(node, ast.ClassDef):
+                    continue
+                for method in node.body:
+                    if isinstance(method, ast.Assign):
+                        stored |= {target.id for target in method.targets}
+                    if not isinstance(method, ast.FunctionDef):
+                        continue
+                    if method.name.startswith("__"):
+                        self.assertIn(method.name.strip("_"), DUNDERS, name)
+                    elif method.decorator_list:
+                        made.add(method.name)
+                    else:
+                        plain.add(method.name)
+        self.assertFalse(made & (plain | stored))
+        self.assertFalse(plain & stored)
+        self.assertFalse((plain | made | stored) & BARRED_ATTRIBUTES)
+
+    def test_is(self):
+        for name, tree in self.trees():
+            for node in ast.walk(tree):
+                if isinstance(node, ast.Compare) and isinstance(node.ops[0], (ast.Is, ast.IsNot)):
+                    self.assertIsInstance(node.comparators[0], ast.Constant, name)
+
+    def test_no_sort_and_no_chr(self):
+        for path, text in self.sources():
+            self.assertNotRegex(text, r"\.sort\(|\bchr\(|\bbytes\(", path.name)
+
+    def test_strings(self):
+        for name, tree in self.trees():
+            for node in ast.walk(tree):
+                if isinstance(node, ast.Constant) and isinstance(node.value, str):
+                    self.assertNotRegex(node.value, r"\A__.*__\Z|\._\Z|\.__\Z", name)
+
+    def test_no_two_files_import_each_other(self):
+        needs = {}
+        for name, tree in self.trees():
+            found = [node.module for node in tree.body if isinstance(node, ast.ImportFrom)]
+            needs[name[:-3]] = [module.split(".")[1] for module in found if module.startswith("shortestbytes.")]
+        done = set()
+        while len(done) < len(needs):
+            ready = {name for name in needs if name not in done and set(needs[name]) <= done}
+            self.assertTrue(ready, "a circle of imports")
+            done |= ready
 
 
 if __name__ == "__main__":
