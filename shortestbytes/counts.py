@@ -55,6 +55,16 @@ def least_second(first):
     return FIRST_LONG if first == LONG + 1 else 1
 
 
+def codes_of_size(low, high, size):
+    """How many of the numbers from low to high have a code of this many bytes."""
+    if size == 0:
+        return 0
+    # The first number whose code has this size, and the first one whose code has a greater size.
+    first = 0 if size == 1 else FIRST_LONG if size == 2 else 1 << (8 * (size - 2))
+    behind = FIRST_LONG if size == 1 else 1 << (8 * (size - 1))
+    return max(0, min(high + 1, behind) - max(low, first))
+
+
 def byte_at(data, at, low, high):
     """The entry at an index of data, which must be a byte from low to high."""
     if at == len(data):
@@ -65,13 +75,25 @@ def byte_at(data, at, low, high):
     return entry
 
 
-def number_at(data, at=0):
-    """The number whose code begins at an index of data, and the index behind the code."""
-    first = byte_at(data, at, 0, LAST_FIRST)
+def digit_at(data, at, low, high, is_turned):
+    """The byte from low to high at an index of data; if it is turned, it stands there as 255 minus it."""
+    if is_turned:
+        return 255 - byte_at(data, at, 255 - high, 255 - low)
+    return byte_at(data, at, low, high)
+
+
+def code_at(data, at, is_turned):
+    """The number whose code, turned or not, begins at an index of data, and the index behind the code."""
+    first = digit_at(data, at, 0, LAST_FIRST, is_turned)
     end = at + code_size(first)
     if end == at + 1:
         return first, end
-    number = byte_at(data, at + 1, least_second(first), 255)
+    number = digit_at(data, at + 1, least_second(first), 255, is_turned)
     for index in range(at + 2, end):
-        number = number * 256 + byte_at(data, index, 0, 255)
+        number = number * 256 + digit_at(data, index, 0, 255, is_turned)
     return number, end
+
+
+def number_at(data, at=0):
+    """The number whose code begins at an index of data, and the index behind the code."""
+    return code_at(data, at, False)

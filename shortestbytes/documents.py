@@ -1,12 +1,11 @@
 """Documents: rows of bytes, of which each value has exactly one."""
 
-from shortestbytes.bodies import Course
-from shortestbytes.counts import is_byte, is_number, number_code
+from shortestbytes.counts import is_number, number_code
+from shortestbytes.courses import followed
 from shortestbytes.errors import BadItem, BadNumber, BadValue, DuplicateKey, TooDeep, Unfinished, WrongByte
 from shortestbytes.grammar import grammar_of
 from shortestbytes.items import depth_of, events_of, line_of, value_of
 from shortestbytes.kinds import LIST, MAP, TAG, WORDS
-from shortestbytes.scans import is_within
 from shortestbytes.values import document_row, first_bad, hex_text
 
 KEY_WORDS = ("integer", "octets", "text")
@@ -32,13 +31,11 @@ class Document:
     @classmethod
     def read(cls, data, *, schema=None):
         """The document of the schema that data is."""
-        course = Course(grammar_of(schema))
-        for at, entry in enumerate(data):
-            if not is_byte(entry) or not is_within(entry, course.ranges()):
-                raise WrongByte(at)
-            course.take(entry)
-        if not course.is_over():
-            raise Unfinished(len(data))
+        end, is_whole = followed(data, 0, grammar_of(schema))
+        if end < len(data):
+            raise WrongByte(end)
+        if not is_whole:
+            raise Unfinished(end)
         return cls(data)
 
     @classmethod

@@ -4,8 +4,7 @@ from shortestbytes.bodies import EmptyBody
 from shortestbytes.counts import is_int
 from shortestbytes.kinds import INTEGER, NEGATIVE, TEXT
 from shortestbytes.leaves import content_of, leaf_row
-from shortestbytes.scans import LeafScan
-from shortestbytes.spans import Span
+from shortestbytes.spans import Span, leaf_scan
 
 
 class Form:
@@ -13,7 +12,7 @@ class Form:
 
     A form that is its only alternative also has `kinds()`, the kind bytes that its documents begin
     with, which have one word; `is_met_by(value, grammar)`, whether a value matches it; and
-    `body(kind, grammar, level)`, which takes what stands behind a kind byte at a level.
+    `body(kind, grammar, level)`, the way through what stands behind a kind byte at a level.
     """
 
     def expanded(self, grammar):
@@ -44,7 +43,7 @@ class Constant(Form):
         return (value is None or isinstance(value, bool)) and leaf_row(value) == [self._kind]
 
     def body(self, kind, grammar, level):
-        """Takes nothing."""
+        """Nothing follows."""
         return EmptyBody()
 
 
@@ -73,8 +72,8 @@ class Integers(Form):
         return is_int(value) and self._low <= value <= self._high
 
     def body(self, kind, grammar, level):
-        """Takes the code of an integer."""
-        return LeafScan(self.spans()[-1 if kind == INTEGER else 0])
+        """The way through the code of an integer."""
+        return leaf_scan(self.spans()[-1 if kind == INTEGER else 0])
 
 
 class Sized(Form):
@@ -102,5 +101,5 @@ class Sized(Form):
         return self._content is None or content_of(value) == self._content
 
     def body(self, kind, grammar, level):
-        """Takes the code of a length and the content."""
-        return LeafScan(self.spans()[0])
+        """The way through the code of a length and the content."""
+        return leaf_scan(self.spans()[0])

@@ -1,10 +1,12 @@
 """Grammars: a root form and forms with names, and what follows from them together."""
 
+from shortestbytes.bodies import body_of
 from shortestbytes.choices import Anything, Choice
 from shortestbytes.kinds import WORDS
 from shortestbytes.nests import Tagged
 from shortestbytes.scans import ranges_of
 from shortestbytes.values import DEEPEST
+from shortestbytes.ways import either, later, no_way
 
 # The depth of a form that no value matches, however deep. It is greater than the depth that
 # the forms of a schema, which are nested at most 30 deep, can add to the deepest value.
@@ -29,10 +31,12 @@ class Grammar:
     def __init__(self, forms):
         self._forms = forms
         self._depths = least_depths(forms)
-        # What was found out before, for forms or for tuples of form and level.
+        # What was found out before, for forms or for tuples of form, level and more.
         self._expanded = {}
         self._reached = {}
         self._beginnings = {}
+        self._least_sizes = {}
+        self._ways = {}
 
     def root(self):
         """The root form."""
@@ -68,6 +72,30 @@ class Grammar:
                         found.setdefault(kind, []).append(one)
             self._beginnings[(form, level)] = (ranges_of(list(found)), found)
         return self._beginnings[(form, level)]
+
+    def sizes_by_kind(self, form, level):
+        """Tuples of the least count of bytes of an item of a form at a level, and the kind byte that it begins with."""
+        if (form, level) not in self._least_sizes:
+            _, forms = self.beginnings(form, level)
+            found = [(1 + body_of(self, form, level, kind).least_size(), kind) for kind in forms]
+            self._least_sizes[(form, level)] = found
+        return self._least_sizes[(form, level)]
+
+    def least_size(self, form, level):
+        """The least count of bytes of an item of a form at a level; some item must fit there."""
+        size, _ = min(self.sizes_by_kind(form, level))
+        return size
+
+    def ways(self, form, level, most):
+        """The ways through an item of a form at a level."""
+        if (form, level, most) not in self._ways:
+            _, forms = self.beginnings(form, level)
+            found = no_way(most)
+            for kind in forms:
+                if most > 0:
+                    found = either(found, later(body_of(self, form, level, kind).ways(most - 1), 1))
+            self._ways[(form, level, most)] = found
+        return self._ways[(form, level, most)]
 
     def is_met(self, form, value):
         """Whether a value matches a form."""

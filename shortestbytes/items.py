@@ -1,9 +1,9 @@
 """The items of documents that are known to be right: their events, values and lines."""
 
-from shortestbytes.counts import code_size, number_at
+from shortestbytes.counts import code_at
 from shortestbytes.kinds import FALSE, NEGATIVE, NONE, OCTETS, TEXT, TRUE, WORDS
 from shortestbytes.leaves import text_of
-from shortestbytes.values import Tag, hex_text
+from shortestbytes.values import document_row, hex_text, right_tag
 
 CONSTANTS = {"none": None, "false": False, "true": True}
 NEST_WORDS = ("list", "map", "tag")
@@ -15,11 +15,8 @@ def head_at(data, at):
     kind = data[at]
     if kind in (NONE, FALSE, TRUE):
         return None, at + 1
-    if kind != NEGATIVE:
-        return number_at(data, at + 1)
-    end = at + 1 + code_size(255 - data[at + 1])
-    number, _ = number_at([255 - byte for byte in data[at + 1:end]])
-    return -1 - number, end
+    number, end = code_at(data, at + 1, kind == NEGATIVE)
+    return (-1 - number if kind == NEGATIVE else number), end
 
 
 def worth_at(data, at):
@@ -65,7 +62,7 @@ def built(word, worth, parts):
     if word == "map":
         return {parts[at]: parts[at + 1] for at in range(0, len(parts), 2)}
     if word == "tag":
-        return Tag(worth, parts[0])
+        return right_tag(worth, parts[0], document_row(parts[0]))
     return CONSTANTS.get(word, worth)
 
 

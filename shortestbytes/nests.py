@@ -2,9 +2,11 @@
 
 from shortestbytes.bodies import ListBody, MapBody
 from shortestbytes.forms import Form
+from shortestbytes.keys import KeySpace
 from shortestbytes.kinds import LIST, MAP, TAG
 from shortestbytes.leaves import leaf_row
-from shortestbytes.pairs import KeySpace, ListedPairs, ShapedPairs
+from shortestbytes.pairs import ListedPairs, ShapedPairs
+from shortestbytes.scans import code_scan
 from shortestbytes.values import Tag, parts_of
 
 
@@ -37,8 +39,8 @@ class Rows(Form):
         return all([grammar.is_met(form, item) for form, item in zip(self._inner, value)])
 
     def body(self, kind, grammar, level):
-        """Takes just as many items."""
-        return ListBody(grammar, self, level, len(self._inner), len(self._inner))
+        """The way through just as many items."""
+        return ListBody(grammar, self, level, code_scan(len(self._inner), len(self._inner)))
 
 
 class Lists(Form):
@@ -72,9 +74,9 @@ class Lists(Form):
         return all([grammar.is_met(self._inner, item) for item in value])
 
     def body(self, kind, grammar, level):
-        """Takes items as far as there is a level left for them."""
+        """The way through items, as far as there is a level left for them."""
         most = self._most if grammar.fits(self._inner, level + 1) else 0
-        return ListBody(grammar, self, level, self._least, most)
+        return ListBody(grammar, self, level, code_scan(self._least, most))
 
 
 class Maps(Form):
@@ -109,9 +111,10 @@ class Maps(Form):
         return any([form.is_met_by(key, grammar) for form in self._key_forms])
 
     def body(self, kind, grammar, level):
-        """Takes pairs as far as there are keys, and a level left for the values."""
+        """The way through pairs, as far as there are keys, and a level left for the values."""
         most = min(self._most, self._space.many) if grammar.fits(self._inner, level + 1) else 0
-        return MapBody(grammar, ShapedPairs(self._space, self._inner), level, self._least, most)
+        pairs = ShapedPairs(grammar, self._space, self._inner, level + 1)
+        return MapBody(grammar, pairs, level, code_scan(self._least, most))
 
 
 class Record(Form):
@@ -143,9 +146,10 @@ class Record(Form):
         return all([key in self._table and grammar.is_met(self._table[key], value[key]) for key in value])
 
     def body(self, kind, grammar, level):
-        """Takes the required pairs, and the optional ones for whose values there is a level left."""
+        """The way through the required pairs, and the optional ones for whose values there is a level left."""
         entries = [entry for entry in self._entries if entry[2] or grammar.fits(entry[1], level + 1)]
-        return MapBody(grammar, ListedPairs(entries), level, len(self._required), len(entries))
+        pairs = ListedPairs(grammar, entries, level + 1)
+        return MapBody(grammar, pairs, level, code_scan(len(self._required), len(entries)))
 
 
 class Tagged(Form):

@@ -1,6 +1,10 @@
-"""Scans: each takes the bytes of one stretch of a document and knows which bytes can come next."""
+"""Scans: the ways through one stretch of a document, and the bytes that can come next on them.
 
-from shortestbytes.counts import code_size, least_second, number_at, number_code
+A scan never changes; `after` gives the one behind a byte.
+"""
+
+from shortestbytes.counts import code_at, code_size, codes_of_size, least_second, number_at, number_code
+from shortestbytes.kinds import OCTETS, TEXT
 from shortestbytes.leaves import ranges_of_kind
 
 
@@ -20,17 +24,22 @@ def is_within(byte, ranges):
     return any([low <= byte <= high for low, high in ranges])
 
 
-class CodeScan:
-    """Takes the code of one of the numbers from low to high.
+def code_scan(low, high, is_turned=False):
+    """The way through the code of one of the numbers from low to high.
 
     If it is turned, each byte stands as 255 minus it.
     """
+    return CodeScan(tuple(number_code(low)), tuple(number_code(high)), is_turned, ())
 
-    def __init__(self, low, high, is_turned=False):
-        self._low = number_code(low)
-        self._high = number_code(high)
+
+class CodeScan:
+    """The way through a code from a least to a greatest one; the bytes that were taken are kept not turned."""
+
+    def __init__(self, low, high, is_turned, taken):
+        self._low = low
+        self._high = high
         self._is_turned = is_turned
-        self._taken = []
+        self._taken = taken
 
     def wants_byte(self):
         """Whether the code is not whole."""
@@ -49,12 +58,18 @@ class CodeScan:
             high = self._high[at]
         return [(255 - high, 255 - low)] if self._is_turned else [(low, high)]
 
-    def take(self, byte):
-        """Takes a byte that can come next."""
-        self._taken.append(255 - byte if self._is_turned else byte)
+    def after(self, byte):
+        """The scan behind a byte that can come next."""
+        digit = 255 - byte if self._is_turned else byte
+        return CodeScan(self._low, self._high, self._is_turned, self._taken + (digit,))
+
+    def short(self):
+        """The byte with which a shortest code goes on."""
+        low, high = self.ranges()[0]
+        return high if self._is_turned else low
 
     def row(self):
-        """The code that was taken, not turned, a new list."""
+        """The bytes that were taken, not turned, a new list."""
         return list(self._taken)
 
     def number_taken(self):
@@ -62,21 +77,65 @@ class CodeScan:
         number, _ = number_at(self._taken)
         return number
 
+    def least_number(self):
+        """The least number that the code can still become."""
+        at = len(self._taken)
+        if self._taken == self._low[:at]:
+            return number_at(self._low)[0]
+        return self._filled(0)
+
+    def greatest_number(self):
+        """The greatest number that the code can still become."""
+        at = len(self._taken)
+        if self._taken == self._high[:at]:
+            return number_at(self._high)[0]
+        return self._filled(255)
+
+    def _filled(self, byte):
+        """The number of the code that goes on with this byte, or with the least one that can come, to its end."""
+        row = self.row()
+        while len(row) < code_size(row[0]):
+            row.append(max(byte, least_second(row[0])) if len(row) == 1 else byte)
+        return number_at(row)[0]
+
+    def reachable(self, most):
+        """The numbers up to most that the code can still become with up to so many bytes more: tuples of both."""
+        taken = len(self._taken)
+        numbers = range(self.least_number(), min(self.greatest_number(), most) + 1)
+        found = [(number, len(number_code(number)) - taken) for number in numbers]
+        return [(number, missing) for number, missing in found if missing <= most]
+
+    def ways(self, most):
+        """The ways to finish the code."""
+        low, high, taken = self.least_number(), self.greatest_number(), len(self._taken)
+        return [codes_of_size(low, high, taken + missing) for missing in range(most + 1)]
+
+
+def signs_of(ranges):
+    """The bytes of some ranges."""
+    return [sign for low, high in ranges for sign in range(low, high + 1)]
+
+
+def place_of_content(content, signs):
+    """How many contents of the same size, consisting of these bytes, are less."""
+    place = 0
+    for byte in content:
+        place = place * len(signs) + signs.index(byte)
+    return place
+
 
 class ContentScan:
-    """Takes the content of a leaf of a kind: as many bytes as size tells.
+    """The way through the content of a leaf of a kind, which has as many bytes as size tells.
 
-    As a row it is not less than first and not greater than last, if these are not None.
+    As a row it is not less than first and not greater than last, if these are not None; `at` bytes were taken.
     """
 
-    def __init__(self, kind, size, first=None, last=None):
-        self._signs = ranges_of_kind(kind)
+    def __init__(self, kind, size, first=None, last=None, at=0):
+        self._kind = kind
         self._size = size
         self._first = first
         self._last = last
-        self._at = 0
-        self._is_at_first = first is not None
-        self._is_at_last = last is not None
+        self._at = at
 
     def wants_byte(self):
         """Whether the content is not whole."""
@@ -84,25 +143,44 @@ class ContentScan:
 
     def ranges(self):
         """The bytes that can come next."""
-        least = self._first[self._at] if self._is_at_first else 0
-        most = self._last[self._at] if self._is_at_last else 255
-        return [(max(low, least), min(high, most)) for low, high in self._signs if low <= most and high >= least]
+        least = 0 if self._first is None else self._first[self._at]
+        most = 255 if self._last is None else self._last[self._at]
+        signs = ranges_of_kind(self._kind)
+        return [(max(low, least), min(high, most)) for low, high in signs if low <= most and high >= least]
 
-    def take(self, byte):
-        """Takes a byte that can come next."""
-        if self._is_at_first:
-            self._is_at_first = byte == self._first[self._at]
-        if self._is_at_last:
-            self._is_at_last = byte == self._last[self._at]
-        self._at += 1
+    def after(self, byte):
+        """The scan behind a byte that can come next."""
+        # A bound is of no account any more once a byte is not the same as in it.
+        first = self._first if self._first is not None and self._first[self._at] == byte else None
+        last = self._last if self._last is not None and self._last[self._at] == byte else None
+        return ContentScan(self._kind, self._size, first, last, self._at + 1)
+
+    def missing(self):
+        """How many bytes are to come."""
+        return self._size - self._at
+
+    def how_many(self):
+        """How many ways there are to go on to the end."""
+        signs = signs_of(ranges_of_kind(self._kind))
+        first = signs[:1] * self.missing() if self._first is None else self._first[self._at:]
+        last = signs[-1:] * self.missing() if self._last is None else self._last[self._at:]
+        return place_of_content(last, signs) + 1 - place_of_content(first, signs)
+
+
+def owed_by_key(row, taken):
+    """The bytes of content that are missing of a key of which so many bytes, at least one, were taken."""
+    if row[0] not in (OCTETS, TEXT):
+        return 0
+    size, end = code_at(row, 1, False)
+    return size - max(0, taken - end)
 
 
 class RowScan:
-    """Takes one of several rows, none of which is the beginning of another one."""
+    """The way through one of several rows in ascending order, none of which is the beginning of another one."""
 
-    def __init__(self, choices):
+    def __init__(self, choices, at=0):
         self._choices = choices
-        self._at = 0
+        self._at = at
 
     def wants_byte(self):
         """Whether no row is whole."""
@@ -112,70 +190,18 @@ class RowScan:
         """The bytes that can come next."""
         return ranges_of([row[self._at] for row in self._choices])
 
-    def take(self, byte):
-        """Takes a byte that can come next."""
-        self._choices = [row for row in self._choices if row[self._at] == byte]
-        self._at += 1
+    def after(self, byte):
+        """The scan behind a byte that can come next."""
+        return RowScan([row for row in self._choices if row[self._at] == byte], self._at + 1)
 
     def row(self):
-        """The row that was taken, once it is whole, a new list."""
-        return list(self._choices[0])
+        """The bytes that were taken, a new list."""
+        return list(self._choices[0][:self._at])
 
+    def rows_left(self):
+        """The rows that it can still become, a new list."""
+        return list(self._choices)
 
-class LeafScan:
-    """Takes what stands behind the kind byte of a leaf of a span."""
-
-    def __init__(self, span):
-        self._span = span
-        self._code = span.code_scan()
-        self._content = None
-
-    def wants_byte(self):
-        """Whether the leaf is not whole."""
-        return self._content is None or self._content.wants_byte()
-
-    def ranges(self):
-        """The bytes that can come next."""
-        return self._code.ranges() if self._content is None else self._content.ranges()
-
-    def take(self, byte):
-        """Takes a byte that can come next."""
-        if self._content is not None:
-            self._content.take(byte)
-            return
-        self._code.take(byte)
-        if not self._code.wants_byte():
-            self._content = self._span.content_scan(self._code.number_taken())
-
-    def advance(self):
-        """Nothing follows within a leaf that is whole."""
-        return None
-
-
-class KeyScan:
-    """Takes a key of one of several spans, each of another kind."""
-
-    def __init__(self, spans):
-        self._spans = {span.kind: span for span in spans}
-        self._leaf = None
-        self._taken = []
-
-    def wants_byte(self):
-        """Whether the key is not whole."""
-        return self._leaf is None or self._leaf.wants_byte()
-
-    def ranges(self):
-        """The bytes that can come next."""
-        return ranges_of(list(self._spans)) if self._leaf is None else self._leaf.ranges()
-
-    def take(self, byte):
-        """Takes a byte that can come next."""
-        if self._leaf is None:
-            self._leaf = LeafScan(self._spans[byte])
-        else:
-            self._leaf.take(byte)
-        self._taken.append(byte)
-
-    def row(self):
-        """The bytes of the key that were taken, a new list."""
-        return list(self._taken)
+    def owed(self):
+        """The bytes of content that are missing, if the rows are those of keys."""
+        return owed_by_key(self._choices[0], self._at) if self._at > 0 else 0

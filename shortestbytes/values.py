@@ -87,17 +87,19 @@ def copy_of(value):
         return [copy_of(item) for item in value]
     if isinstance(value, dict):
         return {key: copy_of(part) for key, part in parts_of(value)}
-    return twin_of(value) if isinstance(value, Tag) else value
+    if isinstance(value, Tag):
+        return right_tag(value.number, value._content, value._row)
+    return value
 
 
-def twin_of(tag):
-    """Another Tag that is equal to the tag."""
+def right_tag(number, content, row):
+    """The Tag with a content that is known to be a value, and the row of its document."""
     # It begins with a small content, so that one known to be right is not looked at again.
-    # The two may have the inner content in common, for it is never handed out and never changes.
-    twin = Tag(tag.number, None)
-    twin._content = tag._content
-    twin._row = tag._row
-    return twin
+    # Tags may have the content in common, for it is never handed out and never changes.
+    tag = Tag(number, None)
+    tag._content = content
+    tag._row = tuple(row)
+    return tag
 
 
 def document_row(value):

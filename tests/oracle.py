@@ -5,7 +5,10 @@ dicts of a record are tuples of pairs; a key in them is a document.
 """
 
 import itertools
+import random
 
+from shortestbytes.errors import Ambiguous, BadShape, Barren, Circular
+from shortestbytes.schemas import Schema
 from shortestbytes.shapes import Shape
 
 SIGNS = [9, 10, *range(32, 37), *range(38, 127)]
@@ -203,3 +206,76 @@ class Planner:
         pairs = tuple(zip(keys, self.plans(len(keys), depth)))
         split = self.chance.randint(0, len(keys))
         return word, pairs[:split], pairs[split:]
+
+
+def padded(depth, shape):
+    """The shape below so many tags."""
+    for _ in range(depth):
+        shape = Shape.tagged(7, shape)
+    return shape
+
+
+def drawn_plans(seeds):
+    """Plans by chance: the chance, the root and the names."""
+    for seed in seeds:
+        chance = random.Random(seed)
+        planner = Planner(chance, ["a", "b", "c"])
+        names = {name: planner.plan(2) for name in planner.names}
+        yield chance, planner.plan(chance.choice([1, 2, 3])), names
+
+
+def made(root, names, depth, limit):
+    """The schema of a plan below so many tags, and its documents; None if they are too many or there is no such schema."""
+    try:
+        schema = Schema(padded(depth, shape(root)), {name: shape(names[name]) for name in names})
+        found = Oracle(names, limit).documents(root, 24 - depth)
+    except (BadShape, Circular, Ambiguous, TooMany):
+        return None
+    return schema, sorted((10, 7) * depth + row for row in found)
+
+
+def drawn_schemas(seeds, depths, limit):
+    """Schemas with few documents by chance: the chance, the schema, and all its documents in ascending order."""
+    for chance, root, names in drawn_plans(seeds):
+        for depth in depths:
+            try:
+                found = made(root, names, depth, limit)
+            except Barren:
+                continue
+            if found is not None:
+                yield chance, *found
+
+
+def code_end(row, at):
+    """The number whose code begins at an index of a right row, and the index behind the code."""
+    if row[at] < 192:
+        return row[at], at + 1
+    end = at + row[at] - 190
+    return int.from_bytes(bytes(row[at + 1:end]), "big"), end
+
+
+def debt(row, taken):
+    """The debt by point 19 behind so many bytes of a document, if each code that is not whole becomes that of the document."""
+    return debt_of_item(row, 0, taken)[0]
+
+
+def debt_of_item(row, at, taken):
+    """The debt of an item and all within it, and the index behind it."""
+    kind = row[at]
+    if kind in (1, 2, 3):
+        return 0, at + 1
+    if kind == 4:
+        return 0, at + 2 + max(0, 64 - row[at + 1])
+    number, end = code_end(row, at + 1)
+    if kind == 5:
+        return 0, end
+    if kind in (6, 7):
+        return (number - min(number, max(0, taken - end)) if at < taken else 0), end + number
+    total = 0
+    for _ in range(1 if kind == 10 else number):
+        if kind != 10 and at < taken <= end:
+            total += 1
+        for _ in range(2 if kind == 9 else 1):
+            more, end = debt_of_item(row, end, taken)
+            total += more
+    return total, end

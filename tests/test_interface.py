@@ -3,12 +3,15 @@
 import inspect
 import unittest
 
-from shortestbytes import counts, documents, errors, schemas, shapes, values
+from shortestbytes import counts, documents, errors, readers, reading, schemas, shapes, values, writers
 
 FUNCTIONS = [
     (counts, "number_code", ["number"]),
     (counts, "number_at", ["data", "at"]),
     (values, "is_value", ["value"]),
+    (reading, "read", ["data", "schema"]),
+    (reading, "first_wrong", ["data", "schema"]),
+    (reading, "is_document", ["data", "schema"]),
 ]
 
 CLASSES = [
@@ -22,6 +25,10 @@ CLASSES = [
         "anything", "just", "integers", "texts", "octets", "rows", "lists", "maps", "record", "fields", "tagged", "named",
         "__or__",
     ]),
+    (readers, "Reader", ["schema"], [
+        "feed", "position", "is_between", "finished", "allowed", "place", "owed", "completion", "copy", "state", "resumed",
+    ]),
+    (writers, "Writer", [], ["put", "is_done", "written", "document"]),
 ]
 
 SIGNATURES = [
@@ -51,6 +58,23 @@ SIGNATURES = [
     (schemas.Schema.names, "(self)"),
     (schemas.Schema.matches, "(self, value)"),
     (schemas.Schema.least_depth, "(self, name=None)"),
+    (reading.read, "(data, *, schema=None)"),
+    (reading.first_wrong, "(data, *, schema=None)"),
+    (reading.is_document, "(data, *, schema=None)"),
+    (readers.Reader, "(schema=None)"),
+    (readers.Reader.feed, "(self, data)"),
+    (readers.Reader.finished, "(self)"),
+    (readers.Reader.allowed, "(self)"),
+    (readers.Reader.place, "(self)"),
+    (readers.Reader.owed, "(self)"),
+    (readers.Reader.completion, "(self)"),
+    (readers.Reader.copy, "(self)"),
+    (readers.Reader.state, "(self)"),
+    (readers.Reader.resumed, "(state, *, schema=None)"),
+    (writers.Writer, "()"),
+    (writers.Writer.put, "(self, word, worth=None)"),
+    (writers.Writer.written, "(self)"),
+    (writers.Writer.document, "(self)"),
 ]
 
 

@@ -155,7 +155,31 @@ class Language(unittest.TestCase):
                         plain.add(method.name)
         self.assertFalse(made & (plain | stored))
         self.assertFalse(plain & stored)
-        self.assertFalse((plain | made | stored) & BARRED_ATTRIBUTES)
+        self.assertFalse(stored & BARRED_ATTRIBUTES)
+        # Methods may be called like methods of lists, which then count as changes of the object.
+        self.assertLessEqual((plain | made) & BARRED_ATTRIBUTES, {"insert", "remove"})
+
+    def test_plain_values_at_module_level(self):
+        for name, tree in self.trees():
+            for statement in tree.body:
+                if isinstance(statement, ast.Assign):
+                    for node in ast.walk(statement.value):
+                        self.assertNotIsInstance(node, (ast.Name, ast.Attribute, ast.Call, ast.Lambda), name)
+
+    def test_iterated_on_the_spot(self):
+        # A range may be kept in a variable; the others, and a choice between two of them, may not.
+        for name, tree in self.trees():
+            fine = set()
+            for node in ast.walk(tree):
+                if isinstance(node, (ast.For, ast.comprehension)):
+                    fine.add(node.iter)
+                if isinstance(node, ast.Call):
+                    fine.update(node.args)
+                if isinstance(node, ast.Assign) and isinstance(node.value, ast.Call):
+                    fine |= {node.value} if getattr(node.value.func, "id", "") == "range" else set()
+            for node in ast.walk(tree):
+                if isinstance(node, ast.Call) and getattr(node.func, "id", "") in ("range", "zip", "enumerate", "reversed"):
+                    self.assertIn(node, fine, f"{name} {node.lineno}")
 
     def test_is(self):
         for name, tree in self.trees():

@@ -8,10 +8,10 @@ from oracle import code, integer
 from test_document_read import NO_BYTES, told
 from test_values import DOCUMENTS, nested
 
-from shortestbytes.bodies import Course
+from shortestbytes.courses import Course
 from shortestbytes.counts import MOST
 from shortestbytes.documents import Document
-from shortestbytes.errors import Ambiguous, BadShape, Barren, Circular, WrongByte
+from shortestbytes.errors import Barren, WrongByte
 from shortestbytes.schemas import Schema
 from shortestbytes.shapes import Shape
 from shortestbytes.values import Tag
@@ -33,11 +33,8 @@ def span(*ranges):
     return [byte for low, high in ranges for byte in range(low, high + 1)]
 
 
-def pads():
-    """Ways to put a shape and its documents deeper, by so many levels."""
-    yield 0, (), lambda shape: shape
-    for depth in (18, 20, 21, 22, 23):
-        yield depth, (10, 7) * depth, lambda shape, depth=depth: nested(depth, lambda one: Shape.tagged(7, one), shape)
+# How many tags a shape and its documents are put below, to try it at great levels.
+DEPTHS = (0, 18, 20, 21, 22, 23)
 
 
 class Reading(unittest.TestCase):
@@ -412,22 +409,16 @@ class AgainstOracle(unittest.TestCase):
 
     def test_schemas_by_chance(self):
         compared = 0
-        for seed in range(100):
-            chance = random.Random(seed)
-            planner = oracle.Planner(chance, ["a", "b", "c"])
-            names = {name: planner.plan(2) for name in planner.names}
-            root = planner.plan(chance.choice([1, 2, 3]))
-            for depth, head, pad in pads():
+        for chance, root, names in oracle.drawn_plans(range(100)):
+            for depth in DEPTHS:
                 try:
-                    schema = Schema(pad(oracle.shape(root)), {name: oracle.shape(names[name]) for name in names})
-                    found = oracle.Oracle(names, 800).documents(root, 24 - depth)
-                except (BadShape, Circular, Ambiguous, oracle.TooMany):
-                    continue
+                    found = oracle.made(root, names, depth, 800)
                 except Barren as error:
                     self.refused(error.name, root, names, depth)
                     continue
-                self.compare(schema, [head + row for row in found], chance)
-                compared += 1
+                if found is not None:
+                    self.compare(*found, chance)
+                    compared += 1
         self.assertGreater(compared, 200)
 
     def refused(self, name, root, names, depth):
