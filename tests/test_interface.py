@@ -3,7 +3,9 @@
 import inspect
 import unittest
 
-from shortestbytes import counts, documents, errors, readers, reading, schemas, shapes, values, writers
+from shortestbytes import (
+    counting, counts, documents, drafts, errors, loose, readers, reading, schemas, shapes, values, views, writers,
+)
 
 FUNCTIONS = [
     (counts, "number_code", ["number"]),
@@ -12,6 +14,8 @@ FUNCTIONS = [
     (reading, "read", ["data", "schema"]),
     (reading, "first_wrong", ["data", "schema"]),
     (reading, "is_document", ["data", "schema"]),
+    (views, "end_of", ["data", "at"]),
+    (loose, "shorten", ["data"]),
 ]
 
 CLASSES = [
@@ -29,6 +33,9 @@ CLASSES = [
         "feed", "position", "is_between", "finished", "allowed", "place", "owed", "completion", "copy", "state", "resumed",
     ]),
     (writers, "Writer", [], ["put", "is_done", "written", "document"]),
+    (views, "View", ["data", "at"], ["__len__", "end", "piece", "part", "children", "value"]),
+    (drafts, "Draft", ["document"], ["document", "put", "insert", "remove", "run", "undo"]),
+    (counting, "Counter", ["schema"], ["how_many", "nth", "place_of", "each"]),
 ]
 
 SIGNATURES = [
@@ -75,6 +82,26 @@ SIGNATURES = [
     (writers.Writer.put, "(self, word, worth=None)"),
     (writers.Writer.written, "(self)"),
     (writers.Writer.document, "(self)"),
+    (views.end_of, "(data, at=0)"),
+    (views.View, "(data, at=0)"),
+    (views.View.end, "(self)"),
+    (views.View.piece, "(self)"),
+    (views.View.part, "(self, *path)"),
+    (views.View.children, "(self)"),
+    (views.View.value, "(self)"),
+    (drafts.Draft, "(document)"),
+    (drafts.Draft.document, "(self)"),
+    (drafts.Draft.put, "(self, path, value)"),
+    (drafts.Draft.insert, "(self, path, value)"),
+    (drafts.Draft.remove, "(self, path)"),
+    (drafts.Draft.run, "(self, deeds)"),
+    (drafts.Draft.undo, "(self)"),
+    (loose.shorten, "(data)"),
+    (counting.Counter, "(schema=None)"),
+    (counting.Counter.how_many, "(self, n, row=())"),
+    (counting.Counter.nth, "(self, n, k)"),
+    (counting.Counter.place_of, "(self, document)"),
+    (counting.Counter.each, "(self, n)"),
 ]
 
 
