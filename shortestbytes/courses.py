@@ -55,9 +55,10 @@ class Course:
         ahead = self.copy()
         row = []
         while not ahead.is_over():
-            for byte in ahead.short():
+            more = ahead.short()
+            for byte in more:
                 ahead.take(byte)
-                row.append(byte)
+            row.extend(more)
         return row
 
     def short(self):

@@ -2,7 +2,7 @@
 
 from shortestbytes.bodies import ListBody, MapBody
 from shortestbytes.forms import Form
-from shortestbytes.keys import KeySpace
+from shortestbytes.keyspaces import KeySpace
 from shortestbytes.kinds import LIST, MAP, TAG
 from shortestbytes.leaves import leaf_row
 from shortestbytes.pairs import ListedPairs, ShapedPairs

@@ -3,7 +3,7 @@
 Pairs never change; `behind` gives those behind a key.
 """
 
-from shortestbytes.keys import key_scan, ways_of_spans
+from shortestbytes.keyspaces import key_scan, ways_of_spans
 from shortestbytes.scans import RowScan
 from shortestbytes.ways import both, either, later, no_way, one_way, repeated, sets_of
 

@@ -4,7 +4,7 @@ from shortestbytes.choices import Anything, Choice, Just, Named, all_key_forms, 
 from shortestbytes.counts import MOST, is_int, is_number
 from shortestbytes.errors import BadShape, BadValue
 from shortestbytes.forms import Integers, Sized
-from shortestbytes.keys import KeySpace
+from shortestbytes.keyspaces import KeySpace
 from shortestbytes.kinds import OCTETS, TEXT, WORDS
 from shortestbytes.leaves import is_integer_value, is_key
 from shortestbytes.nests import Lists, Maps, Record, Rows, Tagged

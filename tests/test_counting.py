@@ -203,7 +203,7 @@ class Sums(unittest.TestCase):
                        Schema(Shape.maps(ANY, Shape.tagged(3, ANY) | FEW)), Schema(Shape.lists(Shape.octets(1) | NONE)),
                        Schema(Shape.record({"a": ANY}, optional={"b": Shape.maps(Shape.octets(), ANY)}))):
             counter = Counter(schema)
-            for _ in range(6):
+            for _ in range(4):
                 n = chance.randint(3, 12)
                 total = counter.how_many(n)
                 if total > 0:
@@ -213,6 +213,36 @@ class Sums(unittest.TestCase):
                         self.check(counter, n, document.data[:size])
                     self.assertEqual(counter.how_many(n, document), 1)
                     self.assertEqual(counter.how_many(n, list(document)), 1)
+
+    def test_within_keys(self):
+        pairs = [Shape.texts(), Shape.octets(), Shape.integers(), ANY, Shape.integers(-257, 257), Shape.texts(0, 2) | Shape.octets(1, 2)]
+        rows = [[9], [9, 2], [9, 2, 4], [9, 2, 4, 63], [9, 2, 4, 64], [9, 2, 5], [9, 2, 5, 191], [9, 2, 5, 192], [9, 2, 6], [9, 2, 6, 1],
+                [9, 2, 6, 2], [9, 2, 6, 2, 0], [9, 2, 6, 2, 255], [9, 2, 7], [9, 2, 7, 0], [9, 2, 7, 1], [9, 2, 7, 2], [9, 2, 7, 2, 97],
+                [9, 2, 7, 2, 126], [9, 2, 5, 7, 1, 4], [9, 2, 5, 7, 1, 5], [9, 3, 6, 0, 1, 7, 1], [9, 2, 7, 1, 97, 1, 7], [9, 3, 7]]
+        for key in pairs:
+            counter = Counter(Schema(Shape.maps(key, NONE | FEW)))
+            for row in rows:
+                for n in (10, 12):
+                    self.check(counter, n, row)
+
+    def test_pairs_of_short_keys(self):
+        # For each key the second ones are those behind it.
+        schema = Schema(Shape.maps(Shape.texts(2, 2) | Shape.integers(-257, 257), NONE, least=2, most=2))
+        counter = Counter(schema)
+        signs = len(oracle.SIGNS)
+        # Of 4 bytes are all these texts, and the keys -257, 256 and 257.
+        self.assertEqual(counter.how_many(12), (signs ** 2 + 3) * (signs ** 2 + 2) // 2)
+        for at, sign in enumerate(oracle.SIGNS):
+            # Both keys begin with the sign, or only the first one does.
+            left = signs - 1 - at
+            self.assertEqual(counter.how_many(12, [9, 2, 7, 2, sign]), signs * (signs - 1) // 2 + signs * left * signs)
+            self.assertEqual(counter.how_many(12, [9, 2, 7, 2, 97, sign]), left + signs * (signs - 1 - oracle.SIGNS.index(97)))
+        # Of 2 bytes are the keys from -192 to 191, of 3 bytes those from -256 to 255 on both sides of them.
+        self.assertEqual(counter.how_many(10, [9, 2, 5, 192]), 64 * 63 // 2)
+        self.assertEqual(counter.how_many(11, [9, 2, 5, 192]), 64 * 2 + 64 * signs ** 2)
+        self.assertEqual(counter.how_many(11, [9, 2, 5, 192, 255]), 2 + signs ** 2)
+        self.assertEqual(counter.how_many(10, [9, 2, 4, 63, 1]), 62 + 64)
+        self.assertEqual(counter.how_many(9, [9, 2, 4, 63]), 64 * (192 + 192))
 
     def test_rows_of_other_lengths(self):
         counter = Counter()

