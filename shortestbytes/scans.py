@@ -29,11 +29,14 @@ def code_scan(low, high, is_turned=False):
 
     If it is turned, each byte stands as 255 minus it.
     """
-    return CodeScan(tuple(number_code(low)), tuple(number_code(high)), is_turned, ())
+    return CodeScan((low, tuple(number_code(low))), (high, tuple(number_code(high))), is_turned, ())
 
 
 class CodeScan:
-    """The way through a code from a least to a greatest one; the bytes that were taken are kept not turned."""
+    """The way through the code of a number from low to high, which are tuples of a number and its code.
+
+    The bytes that were taken are kept not turned.
+    """
 
     def __init__(self, low, high, is_turned, taken):
         self._low = low
@@ -52,11 +55,16 @@ class CodeScan:
         high = 255
         # Codes stand in the order of their numbers: the next byte is bound by the code of the least
         # or the greatest number only as long as the bytes taken are the same as in that code.
-        if self._taken == self._low[:at]:
-            low = self._low[at]
-        if self._taken == self._high[:at]:
-            high = self._high[at]
+        if self._has_taken(self._low):
+            low = self._low[1][at]
+        if self._has_taken(self._high):
+            high = self._high[1][at]
         return [(255 - high, 255 - low)] if self._is_turned else [(low, high)]
+
+    def _has_taken(self, bound):
+        """Whether the bytes taken are those with which the code of low or high begins."""
+        _, code = bound
+        return self._taken == code[:len(self._taken)]
 
     def after(self, byte):
         """The scan behind a byte that can come next."""
@@ -79,17 +87,11 @@ class CodeScan:
 
     def least_number(self):
         """The least number that the code can still become."""
-        at = len(self._taken)
-        if self._taken == self._low[:at]:
-            return number_at(self._low)[0]
-        return self._filled(0)
+        return self._low[0] if self._has_taken(self._low) else self._filled(0)
 
     def greatest_number(self):
         """The greatest number that the code can still become."""
-        at = len(self._taken)
-        if self._taken == self._high[:at]:
-            return number_at(self._high)[0]
-        return self._filled(255)
+        return self._high[0] if self._has_taken(self._high) else self._filled(255)
 
     def _filled(self, byte):
         """The number of the code that goes on with this byte, or with the least one that can come, to its end."""
@@ -116,8 +118,22 @@ def signs_of(ranges):
     return [sign for low, high in ranges for sign in range(low, high + 1)]
 
 
-def place_of_content(content, signs):
-    """How many contents of the same size, consisting of these bytes, are less."""
+def how_many_signs(ranges):
+    """How many bytes some ranges have."""
+    return sum([high + 1 - low for low, high in ranges])
+
+
+def how_many_rows(base, size):
+    """How many rows of a size there are if each entry is one of as many bytes as base tells."""
+    many = 1
+    for _ in range(size):
+        many *= base
+    return many
+
+
+def place_of_content(content, ranges):
+    """How many contents of the same size, which consist of bytes of the ranges, are less."""
+    signs = signs_of(ranges)
     place = 0
     for byte in content:
         place = place * len(signs) + signs.index(byte)
@@ -161,10 +177,13 @@ class ContentScan:
 
     def how_many(self):
         """How many ways there are to go on to the end."""
-        signs = signs_of(ranges_of_kind(self._kind))
-        first = signs[:1] * self.missing() if self._first is None else self._first[self._at:]
-        last = signs[-1:] * self.missing() if self._last is None else self._last[self._at:]
-        return place_of_content(last, signs) + 1 - place_of_content(first, signs)
+        ranges = ranges_of_kind(self._kind)
+        many = how_many_rows(how_many_signs(ranges), self.missing())
+        if self._last is not None:
+            many = place_of_content(self._last[self._at:], ranges) + 1
+        if self._first is not None:
+            many -= place_of_content(self._first[self._at:], ranges)
+        return many
 
 
 def owed_by_key(row, taken):

@@ -3,7 +3,7 @@
 from shortestbytes.counts import codes_of_size, number_code
 from shortestbytes.kinds import INTEGER, NEGATIVE
 from shortestbytes.leaves import content_of, ranges_of_kind
-from shortestbytes.scans import ContentScan, code_scan, signs_of
+from shortestbytes.scans import ContentScan, code_scan, how_many_signs, signs_of
 from shortestbytes.ways import later, no_way
 
 # A count that is greater than that of the pairs of any map; no span is counted beyond it.
@@ -36,7 +36,7 @@ def content_from_end(index, size, ranges):
 
 def how_many_contents(size, ranges):
     """How many contents of a size there are, or ENOUGH if there are not fewer."""
-    base = len(signs_of(ranges))
+    base = how_many_signs(ranges)
     many = 1
     for _ in range(size):
         many *= base

@@ -197,6 +197,36 @@ class Language(unittest.TestCase):
                 if isinstance(node, ast.Constant) and isinstance(node.value, str):
                     self.assertNotRegex(node.value, r"\A__.*__\Z|\._\Z|\.__\Z", name)
 
+    def test_imported_from_the_file_that_defines_the_name(self):
+        trees = {name[:-3]: tree for name, tree in self.trees()}
+        defined = {}
+        for name, tree in trees.items():
+            defined[name] = {node.name for node in tree.body if isinstance(node, (ast.FunctionDef, ast.ClassDef))}
+            defined[name] |= {node.targets[0].id for node in tree.body if isinstance(node, ast.Assign)}
+        for tree in trees.values():
+            for node in tree.body:
+                if isinstance(node, ast.ImportFrom) and node.module.startswith("shortestbytes."):
+                    self.assertLessEqual({found.name for found in node.names}, defined[node.module.split(".")[1]])
+
+    def test_generators(self):
+        # No other function has the name of a generator, and the package itself calls none.
+        names, generators = [], set()
+        for _, tree in self.trees():
+            for node in ast.walk(tree):
+                if isinstance(node, ast.FunctionDef):
+                    names.append(node.name)
+                    if any(isinstance(inner, (ast.Yield, ast.YieldFrom)) for inner in ast.walk(node)):
+                        generators.add(node.name)
+        self.assertEqual(generators, {"events", "children", "each"})
+        self.assertEqual([names.count(name) for name in sorted(generators)], [1, 1, 1])
+
+    def test_unused_imports(self):
+        for name, tree in self.trees():
+            used = {node.id for node in ast.walk(tree) if isinstance(node, ast.Name)}
+            for node in tree.body:
+                if isinstance(node, ast.ImportFrom):
+                    self.assertLessEqual({found.name for found in node.names}, used, name)
+
     def test_no_two_files_import_each_other(self):
         needs = {}
         for name, tree in self.trees():
