@@ -58,7 +58,7 @@ class Course:
             more = ahead.short()
             for byte in more:
                 ahead.take(byte)
-            row.extend(more)
+            row.extend(list(more))
         return row
 
     def short(self):

@@ -133,5 +133,5 @@ def joined(row, documents):
     """A row with the bytes of the documents behind it, a new list."""
     found = list(row)
     for document in documents:
-        found.extend(document.data)
+        found.extend(list(document.data))
     return found

@@ -50,7 +50,7 @@ def events_of(data):
         word = WORDS[data[at]]
         worth, end = worth_at(data, at)
         found.append((at, level, is_key, word, worth))
-        ahead.extend(inner_items(word, worth, level))
+        ahead.extend(list(inner_items(word, worth, level)))
         at = end
     return found
 

@@ -96,7 +96,7 @@ class Items:
 
     def gather(self, walk):
         """Takes one more item."""
-        self._row.extend(item_row(walk, self._level))
+        self._row.extend(list(item_row(walk, self._level)))
         self._many += 1
 
     def row(self):

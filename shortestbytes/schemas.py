@@ -85,5 +85,5 @@ def all_names_led_to(forms, name):
         other = ahead.pop()
         if other not in found:
             found[other] = True
-            ahead.extend(names_led_to(forms[other]))
+            ahead.extend(list(names_led_to(forms[other])))
     return found

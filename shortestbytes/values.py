@@ -107,7 +107,7 @@ def document_row(value):
     if isinstance(value, list):
         row = [LIST] + number_code(len(value))
         for item in value:
-            row.extend(document_row(item))
+            row.extend(list(document_row(item)))
         return row
     if isinstance(value, dict):
         row = [MAP] + number_code(len(value))

@@ -46,7 +46,7 @@ class View:
         self._inside = inside
 
     def __len__(self):
-        return len(range(self.size))
+        return len(list(range(self.size)))
 
     def inside(self):
         """The index behind the head."""

@@ -35,7 +35,7 @@ class Writer:
         if not row:
             raise BadItem(self._many)
         self._course = course
-        self._row.extend(row)
+        self._row.extend(list(row))
         self._many += 1
         self._is_done = course.is_over()
 

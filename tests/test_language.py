@@ -52,6 +52,23 @@ def assigned_names(tree):
             yield node.arg
 
 
+def calls(node, *words):
+    """Whether this is a call of one of these functions by its bare name."""
+    return isinstance(node, ast.Call) and getattr(node.func, "id", "") in words
+
+
+def is_new(node):
+    """Whether this is plainly a list or dict that nothing else holds."""
+    if isinstance(node, ast.Subscript):
+        return isinstance(node.slice, ast.Slice)
+    return calls(node, "list", "dict") or isinstance(node, (ast.List, ast.ListComp, ast.Dict, ast.DictComp, ast.BinOp))
+
+
+def is_length(node):
+    """Whether this is a literal number, or the length of something that is no range itself."""
+    return isinstance(node, ast.Constant) or calls(node, "len") and not calls(node.args[0], "range")
+
+
 class Language(unittest.TestCase):
     def sources(self):
         for path in sorted(FOLDER.rglob("*")):
@@ -180,6 +197,24 @@ class Language(unittest.TestCase):
             for node in ast.walk(tree):
                 if isinstance(node, ast.Call) and getattr(node.func, "id", "") in ("range", "zip", "enumerate", "reversed"):
                     self.assertIn(node, fine, f"{name} {node.lineno}")
+
+    def test_what_extend_walks_is_new(self):
+        # Not seen here: what `+=` walks; the package uses it for numbers only.
+        for name, tree in self.trees():
+            for node in ast.walk(tree):
+                if isinstance(node, ast.AugAssign):
+                    self.assertNotIsInstance(node.op, ast.BitOr, f"{name} {node.lineno}")
+                if isinstance(node, ast.Call) and getattr(node.func, "attr", "") in ("extend", "update"):
+                    self.assertEqual([is_new(walked) for walked in node.args], [True], f"{name} {node.lineno}")
+
+    def test_what_len_gives_back(self):
+        for name, tree in self.trees():
+            for method in ast.walk(tree):
+                if isinstance(method, ast.FunctionDef) and method.name == "__len__":
+                    self.assertIsInstance(method.body[-1], ast.Return, name)
+                    for node in ast.walk(method):
+                        if isinstance(node, ast.Return):
+                            self.assertTrue(is_length(node.value), f"{name} {node.lineno}")
 
     def test_is(self):
         for name, tree in self.trees():

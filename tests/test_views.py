@@ -8,7 +8,7 @@ import unittest
 from test_document_read import NO_BYTES
 from test_values import DOCUMENTS, in_tag, nested
 
-from shortestbytes.counts import MOST
+from shortestbytes.counts import MOST, number_code
 from shortestbytes.documents import Document
 from shortestbytes.errors import BadPath, Unfinished, WrongByte
 from shortestbytes.values import Tag
@@ -171,6 +171,9 @@ class Heads(unittest.TestCase):
     def test_great_sizes(self):
         self.assertEqual(View([8, 254] + [255] * 63).size, MOST)
         self.assertEqual(len(View([7, 193, 31, 64])), 8000)
+        for kind in (6, 7, 8, 9):
+            for size in (0, 1, 191, 192, 7999, 8000, 12000):
+                self.assertEqual(len(View([kind] + number_code(size))), size)
         self.assertEqual(View([10, 191, 1]).size, 1)
 
     def test_only_the_head_is_looked_at(self):
